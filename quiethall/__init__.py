@@ -1,0 +1,1 @@
+"""Quiethall: work that is handed on, and who tells that all is done."""

@@ -1,0 +1,34 @@
+"""Weights: pairs (upper, power), upper divided by 2 so often as power.
+
+Each weight has one form alone, so that equal weights are equal pairs:
+upper is odd and power is from 0 on, or both are 0.
+"""
+
+WHOLE = (1, 0)
+NOTHING = (0, 0)
+
+
+def half_of(weight):
+    return in_one_form(weight[0], weight[1] + 1)
+
+
+def sum_of(one, other):
+    power = max(one[1], other[1])
+    return in_one_form(upper_at(one, power) + upper_at(other, power), power)
+
+
+def upper_at(weight, power):
+    return weight[0] << (power - weight[1])
+
+
+def in_one_form(upper, power):
+    if upper == 0:
+        return NOTHING
+    # A power below 0 is no weight's, so no more twos are taken out than the power has.
+    spare = min(twos_in(upper), power)
+    return (upper >> spare, power - spare)
+
+
+def twos_in(upper):
+    # All bits below the lowest one that is set are 0: upper divides by 2 just so often as there are such bits.
+    return (upper & -upper).bit_length() - 1
